@@ -1043,31 +1043,31 @@ func step(row []int, base int) bool {
 	return false
 }
 
-// doMixed makes a call of any kind: mostly of groups that are there.
-func (b both) doMixed(t *testing.T, r *mixed) {
+// doMixed makes a call of any kind, mostly of groups that are there: the greater ends is, the more often one by which something ends.
+func (b both) doMixed(t *testing.T, r *mixed, ends int) {
 	t.Helper()
 	g, other := b.anyId(r), b.anyId(r)
 	weight := r.upTo(10000) + 1
 	if r.upTo(20) == 0 {
 		weight = noWeights[r.upTo(len(noWeights)-1)]
 	}
-	switch r.upTo(13) {
-	case 0, 1, 2:
+	switch r.upTo(10 + ends) {
+	case 0, 1:
 		b.add(t, g, weight)
-	case 3:
-		b.drop(t, g)
-	case 4, 5, 6:
+	case 2, 3, 4:
 		b.move(t, g, other)
-	case 7:
+	case 5:
 		b.weigh(t, g, weight)
-	case 8, 9:
+	case 6, 7:
 		b.join(t, g)
-	case 10:
-		b.leave(t, g)
-	case 11, 12:
+	case 8, 9:
 		b.wake(t, g)
-	case 13:
-		b.sleep(t, g)
+	case 10:
+		if r.upTo(4) == 0 { // seldom: else most groups would be roots, which never go
+			b.root(t)
+		}
+	default:
+		[]func(*testing.T, int) api.Errno{b.drop, b.leave, b.sleep, b.drop}[r.upTo(3)](t, g)
 	}
 }
 
@@ -1082,33 +1082,44 @@ func (b both) anyId(r *mixed) int {
 // TestMixedRows: long rows of all calls, over one root and over several, with all that is told behind each of them.
 func TestMixedRows(t *testing.T) {
 	r := mixed(88172645463325252)
-	for _, size := range []struct{ room, roots, calls int }{{1, 1, 100}, {2, 1, 200}, {3, 1, 300}, {6, 1, 600}, {12, 1, 600}, {12, 3, 600}, {30, 1, 500}, {30, 4, 500}, {64, 1, 400}, {64, 2, 400}, {64, 8, 400}} {
-		b := newBoth(t, size.room)
-		for range size.roots {
-			b.root(t)
+	for _, size := range []struct{ room, roots, calls int }{{1, 1, 50}, {2, 1, 100}, {3, 1, 200}, {6, 1, 300}, {12, 1, 300}, {12, 3, 300}, {30, 1, 250}, {30, 4, 250}, {64, 1, 200}, {64, 2, 200}, {64, 8, 200}} {
+		for _, ends := range []int{2, 7, 12} {
+			b := newBoth(t, size.room)
+			for range size.roots {
+				b.root(t)
+			}
+			for range size.calls {
+				b.doMixed(t, &r, ends)
+				b.checkEach(t, &r)
+			}
+			b.checkAll(t)
 		}
-		for range size.calls {
-			b.doMixed(t, &r)
-			b.checkSome(t, &r)
-		}
-		b.checkAll(t)
 	}
 }
 
-// checkSome holds all that is told of each group against the words, and Below of each one with a few others.
-func (b both) checkSome(t *testing.T, r *mixed) {
+// checkEach holds all that is told of each id that was given, and Below of any two groups that are there, against the words.
+func (b both) checkEach(t *testing.T, r *mixed) {
 	t.Helper()
 	if b.m.given < 20 {
 		b.check(t)
 		return
 	}
+	var ids []int
+	for _, n := range b.m.all {
+		ids = append(ids, n.id)
+	}
+	if got := b.x.Ids(); !slices.Equal(got, ids) {
+		t.Fatalf("P8.1: Ids: %v; want %v", got, ids)
+	}
 	for g := range b.m.given + 2 {
 		b.checkOne(t, g)
-		for range 4 {
-			b.checkPair(t, g, b.anyId(r))
+		b.checkPair(t, g, b.anyId(r))
+	}
+	for _, g := range ids {
+		for _, top := range ids {
+			b.checkPair(t, g, top)
 		}
 	}
-	b.checkOne(t, b.anyId(r))
 }
 
 // TestDeepMixedRows: rows where groups stand deep and dense, so that depths and fans are met often.
@@ -1182,7 +1193,7 @@ func TestForestsAreKeptApart(t *testing.T) {
 		b.root(t)
 	}
 	for range 300 {
-		all[r.upTo(2)].doMixed(t, &r)
+		all[r.upTo(2)].doMixed(t, &r, 3)
 		for _, b := range all {
 			b.checkThose(t)
 		}
